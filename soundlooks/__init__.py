@@ -1,0 +1,1 @@
+"""Soundlooks: a static analyser, for every program and every order of looking."""
