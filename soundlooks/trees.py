@@ -1,8 +1,9 @@
 """Programs as trees: whether a value is one, its parts, its names and its numbers."""
 
 from soundlooks.arguments import refuse_wrong_proc, refuse_wrong_program
-from soundlooks.basics import STATEMENTS, first_word, is_index, is_row, is_whole
+from soundlooks.basics import STATEMENTS, first_word, is_index, is_whole
 from soundlooks.errors import InvalidProgram
+from soundlooks.sights import number_pairs, pairs_in_sight, row_pairs
 from soundlooks.wrongs import wrong_program
 
 
@@ -53,20 +54,14 @@ def numbers_of(program, proc):
     """The pairs of the numbers in sight of a procedure."""
     refuse_wrong_program(program)
     refuse_wrong_proc(program, proc)
-    return tuple([pair for pair in pairs_in_sight(program, proc) if not is_row(pair)])
+    return number_pairs(pairs_in_sight(program, proc))
 
 
 def rows_of(program, proc):
     """The pairs of the rows in sight of a procedure."""
     refuse_wrong_program(program)
     refuse_wrong_proc(program, proc)
-    return tuple([pair for pair in pairs_in_sight(program, proc) if is_row(pair)])
-
-
-def pairs_in_sight(program, proc):
-    """The pairs of all that is in sight of a procedure, in order."""
-    _, params, local_pairs, _ = program[1][proc]
-    return program[0] + params + local_pairs
+    return row_pairs(pairs_in_sight(program, proc))
 
 
 def marks_of(program):

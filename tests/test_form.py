@@ -12,6 +12,9 @@ PACKAGE = os.path.join(ROOT, "soundlooks")
 INTERFACE = {
     "text": "tokens read show shown_expression shown_condition lines_of",
     "trees": "is_program wrong_in part_at statement_count numbers_of rows_of marks_of",
+    "graphs": "graph_of place_path numbers_at rows_at",
+    "machine": "first_state kind_of moved run states_of",
+    "plain": "plain_run",
     "errors": (
         "LookError InvalidText InvalidProgram InvalidIndex InvalidPlace InvalidNumber InvalidState InvalidStretch "
         "InvalidRest InvalidWidth InvalidGuard InvalidSize InvalidSlot InvalidDifferences InvalidEquations "

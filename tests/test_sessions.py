@@ -32,6 +32,21 @@ TREES = r'''
 [('set', 'i', ('number', 0)), True]
 '''
 
+MACHINE = r'''
+>>> from soundlooks.graphs import graph_of, numbers_at
+>>> from soundlooks.machine import first_state, kind_of, moved, run
+>>> from soundlooks.plain import plain_run
+>>> n, i, one = ("name", "n"), ("name", "i"), ("number", 1)
+>>> up = ("set", "i", ("+", i, one))
+>>> count = ((("n", ("num",)),), (("main", (), (("i", ("num",)),), (("ask", "n", 0, 10), ("while", ("<", i, n), (up,)), ("give", i))),))
+>>> graph_of(count, 0) == (6, ((0, ("ask", "n", 0, 10), 1), (1, ("guard", "<", i, n), 2), (1, ("guard", "<=", n, i), 3), (2, up, 1), (3, ("give", i), 5), (4, ("give", ("number", 0)), 5)), ())
+True
+>>> [first_state(count), kind_of(count, first_state(count)), moved(count, first_state(count), 2), numbers_at(count, 0, 5)]
+[(((0, 0, (0,)),), (0,)), ('waits', (0, 10)), (((0, 1, (0,)),), (2,)), (('n', ('num',)), ('given', ('num',)))]
+>>> [run(count, (2,), 300), plain_run(count, (2,), 300), run(count, (2,), 3)[0], run(count, (11,), 9)[:4]]
+[('done', 2, 7, 1, (((0, 5, (2,)),), (2,))), ('done', 2, 7, 1, (2,)), 'goes', ('waits', (0, 10), 0, 0)]
+'''
+
 
 def steps_of(session):
     """The pairs of a line that is typed and what is shown for it, None for nothing."""
@@ -47,7 +62,7 @@ def steps_of(session):
 class Sessions(unittest.TestCase):
     def test_sessions(self):
         names = {}
-        for session in (TEXT, TREES):
+        for session in (TEXT, TREES, MACHINE):
             for typed, shown in steps_of(session):
                 self.step(names, typed, shown)
 

@@ -1,0 +1,84 @@
+"""The machine: states, what they are, where they go, and runs."""
+
+from soundlooks.arguments import refuse_wrong_inputs, refuse_wrong_most, refuse_wrong_program
+from soundlooks.basics import is_whole
+from soundlooks.errors import InvalidNumber, InvalidState, NotGoing
+from soundlooks.states import Machine
+
+
+def first_state(program):
+    """The first state of a program."""
+    refuse_wrong_program(program)
+    return Machine(program).first()
+
+
+def kind_of(program, state):
+    """What a state is: ("done", NUMBER), ("fault", WORD), ("great", None), ("waits", BOUNDS) or ("goes", None)."""
+    return machine_with(program, state).kind(state)
+
+
+def moved(program, state, number):
+    """The state to which a state goes, a waiting one by a number, all others by None."""
+    machine = machine_with(program, state)
+    word, what = machine.kind(state)
+    refuse_wrong_number(word, what, number)
+    if word not in ("waits", "goes"):
+        raise NotGoing()
+    return machine.next_state(state, number)
+
+
+def run(program, inputs, most):
+    """The tuple (WORD, WHAT, STEPS, USED, STATE) of the run with these inputs, of up to MOST steps."""
+    end, states, used = run_of(program, inputs, most)
+    return end + (len(states) - 1, used, states[-1])
+
+
+def states_of(program, inputs, most):
+    """The tuple of all states of a run, in order."""
+    _, states, _ = run_of(program, inputs, most)
+    return tuple(states)
+
+
+def machine_with(program, state):
+    """The machine of a program, neither this nor a state of it being taken for granted."""
+    refuse_wrong_program(program)
+    machine = Machine(program)
+    if not machine.is_state(state):
+        raise InvalidState(state)
+    return machine
+
+
+def refuse_wrong_number(word, what, number):
+    """Raises InvalidNumber for what cannot come in at a state of this kind."""
+    if word != "waits":
+        if number is not None:
+            raise InvalidNumber(number)
+    elif not is_within(what, number):
+        raise InvalidNumber(number)
+
+
+def is_within(bounds, number):
+    """Whether a value is a whole number within the bounds of an ask."""
+    low, high = bounds
+    if not is_whole(number) or (low is not None and number < low):
+        return False
+    return high is None or number <= high
+
+
+def run_of(program, inputs, most):
+    """A triple: what the run comes to, (WORD, WHAT); the list of its states; how many inputs it took."""
+    refuse_wrong_program(program)
+    refuse_wrong_inputs(inputs)
+    refuse_wrong_most(most)
+    machine = Machine(program)
+    states = [machine.first()]
+    used = 0
+    while True:
+        word, what = machine.kind(states[-1])
+        is_fed = word == "waits" and used < len(inputs) and is_within(what, inputs[used])
+        if word != "goes" and not is_fed:
+            return (word, what), states, used
+        if len(states) > most:
+            return ("goes", None), states, used
+        states.append(machine.next_state(states[-1], inputs[used] if is_fed else None))
+        used += 1 if is_fed else 0
