@@ -61,6 +61,18 @@ def has_few_figures(value):
     return is_whole(value) and -NUMBERS_END < value < NUMBERS_END
 
 
+def is_low(value):
+    """Whether a value is a LOW of an ask."""
+    return value is None or has_few_figures(value)
+
+
+def is_high(low, value):
+    """Whether a value is a HIGH beside a LOW that is as told."""
+    if value is None:
+        return True
+    return has_few_figures(value) and (low is None or low <= value)
+
+
 def is_index(value, size):
     """Whether a value is an index of a tuple of this size."""
     return is_whole(value) and 0 <= value < size

@@ -21,7 +21,7 @@ def moved(program, state, number):
     """The state to which a state goes, a waiting one by a number, all others by None."""
     machine = machine_with(program, state)
     word, what = machine.kind(state)
-    refuse_wrong_number(word, what, number)
+    refuse_wrong_input(word, what, number)
     if word not in ("waits", "goes"):
         raise NotGoing()
     return machine.next_state(state, number)
@@ -48,7 +48,7 @@ def machine_with(program, state):
     return machine
 
 
-def refuse_wrong_number(word, what, number):
+def refuse_wrong_input(word, what, number):
     """Raises InvalidNumber for what cannot come in at a state of this kind."""
     if word != "waits":
         if number is not None:

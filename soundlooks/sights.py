@@ -23,3 +23,19 @@ def number_pairs(pairs):
 def row_pairs(pairs):
     """Those of some pairs that are rows."""
     return tuple([pair for pair in pairs if is_row(pair)])
+
+
+def sight_in(program, proc):
+    """The sight of a procedure: the pairs of its numbers, and of its rows."""
+    pairs = pairs_in_sight(program, proc)
+    return number_pairs(pairs), row_pairs(pairs)
+
+
+def sight_at_end(program):
+    """The end's sight of a program."""
+    return number_pairs(program[0]) + (GIVEN,), row_pairs(program[0])
+
+
+def sight_at(program, layout, proc, place):
+    """The sight at a place of a procedure with this graph."""
+    return sight_at_end(program) if place == layout.end else sight_in(program, proc)

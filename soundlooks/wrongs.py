@@ -1,7 +1,7 @@
 """Where a value is wrong: the first path at which it is not as told, None where there is none."""
 
 from soundlooks.basics import CONDITIONS, EXPRESSIONS, STATEMENTS
-from soundlooks.basics import first_word, has_few_figures, is_kind, is_name, is_row
+from soundlooks.basics import first_word, has_few_figures, is_high, is_kind, is_low, is_name, is_row
 
 MOST_PROCS = 6
 MOST_STATEMENTS = 60
@@ -191,7 +191,7 @@ class Bodies:
         elif role == "aim":
             right = value is None or names_number(self.sight, value)
         elif role == "low":
-            right = value is None or has_few_figures(value)
+            right = is_low(value)
         elif role == "high":
             right = is_high(statement[2], value)
         else:
@@ -207,10 +207,3 @@ class Bodies:
             if wrong is not None:
                 return wrong
         return None
-
-
-def is_high(low, value):
-    """Whether a value is a HIGH beside a LOW that is as told."""
-    if value is None:
-        return True
-    return has_few_figures(value) and (low is None or low <= value)

@@ -11,8 +11,10 @@ COMPARISONS = ("<", "<=", "==", "!=")
 class Drawer:
     """Draws parts of programs; how far they go is set by what it is made with."""
 
-    def __init__(self, seed, procs=3, statements=7, deep=3, wide=2, kinds=("num", "word", "row")):
+    def __init__(self, seed, procs=3, statements=7, deep=3, wide=2, kinds=("num", "word", "row"), tame=False):
         self.random = random.Random(seed)
+        # Tame programs seldom fail, and their loops count.
+        self.tame = tame
         self.procs = procs
         self.statements = statements
         self.deep = deep
@@ -32,7 +34,8 @@ class Drawer:
         return (word, self.random.randint(1, 3)) if word == "row" else (word, self.choose(1, 2, 4, 8))
 
     def pairs(self, names, most, kinds):
-        chosen = names[:self.random.randint(0, most)]
+        least = 1 if self.tame else 0
+        chosen = names[:self.random.randint(least, most)]
         return tuple((name, self.kind(kinds)) for name in chosen)
 
     def program(self):
@@ -41,7 +44,7 @@ class Drawer:
         heads = []
         for index in range(self.random.randint(1, self.procs)):
             params = () if index == 0 else self.pairs(("a", "b"), 2, flat)
-            own = self.pairs(("x", "y", "z"), self.wide, self.kinds)
+            own = self.pairs(("x", "y", "z"), self.wide, flat if len(shared) + self.wide > 4 else self.kinds)
             heads.append((("main", "f", "k")[index], params, own))
         self.left = 40
         return shared, tuple(head + (self.body(shared, heads, head),) for head in heads)
@@ -62,6 +65,8 @@ class Drawer:
         return tuple(found)
 
     def statement(self, depth):
+        if self.tame and self.numbers and self.random.random() < 0.9:
+            return self.tame_statement(depth)
         words = ["check"] + ["call"] * 2 + ["give"] * (depth > 1)
         words += ["set"] * 6 + ["ask"] * 2 if self.numbers else []
         words += ["put"] * 2 if self.rows else []
@@ -86,6 +91,31 @@ class Drawer:
         head = self.random.choice(self.heads)
         aim = self.random.choice([None] + self.numbers)
         return ("call", aim, head[0], tuple(self.expression(2) for _ in head[1]))
+
+    def tame_statement(self, depth):
+        name = self.random.choice(self.numbers)
+        one, other = ("name", name), ("name", self.random.choice(self.numbers))
+        by = self.choose(("number", self.number()), ("number", 1), other)
+        bound = self.choose(("number", self.number() + 5), ("number", 10), other)
+        word = self.choose("set", "set", "set", "ask", "if", "while", "put", "give", "call")
+        if word == "call":
+            head = self.random.choice(self.heads)
+            return ("call", self.choose(name, None), head[0], tuple(self.choose(one, by, ("-", one, ("number", 1))) for _ in head[1]))
+        if word == "ask":
+            return ("ask", name, self.choose(None, 0, 1, -3), self.choose(None, 2, 9, 50))
+        if word == "put" and self.rows:
+            return ("put", self.random.choice(self.rows), self.choose(("number", 0), one), by)
+        if word == "give" and depth > 1:
+            return ("give", self.choose(one, by, ("+", one, by)))
+        sign = self.choose("<", "<=", "!=", "==")
+        if word == "if" and depth < self.deep:
+            return ("if", (sign, one, bound), self.block(depth + 1, 2), self.block(depth + 1, 2))
+        if word == "while" and depth < self.deep:
+            count = ("set", name, ("+", one, ("number", self.choose(1, 1, 2, 3))))
+            return ("while", (self.choose("<", "<="), one, bound), self.block(depth + 1, 2) + (count,))
+        made = self.choose(("+", one, by), ("-", one, by), by, ("+", other, by), ("*", other, ("number", 2)), ("mod", other, ("number", 6)),
+                           ("div", other, ("number", 3)), ("-", other, ("*", ("number", 3), by)))
+        return ("set", name, made)
 
     def expression(self, deep):
         words = ["number"] * 2 + ["name"] * 4 * bool(self.numbers)

@@ -15,6 +15,31 @@ INTERFACE = {
     "graphs": "graph_of place_path numbers_at rows_at",
     "machine": "first_state kind_of moved run states_of",
     "plain": "plain_run",
+    "stretches": (
+        "is_stretch stretch_holds stretch_within stretch_joined stretch_met stretch_back stretch_sum stretch_product "
+        "stretch_quotient stretch_modulo stretch_wrapped stretch_guarded stretch_widened stretch_rank"
+    ),
+    "rests": (
+        "is_rest rest_holds rest_within rest_joined rest_met rest_back rest_sum rest_product rest_quotient rest_modulo "
+        "rest_wrapped rest_guarded rest_rank settled"
+    ),
+    "differences": (
+        "is_differences free_differences differences_hold closed_differences ring_of some_values values_apart "
+        "stretch_between differences_within differences_joined differences_met differences_guarded differences_unlike "
+        "differences_forgotten differences_set differences_kept differences_widened differences_rank"
+    ),
+    "equations": (
+        "is_equations equations_from equations_hold equations_keep point_outside form_value equations_within "
+        "equations_joined equations_met equations_guarded equations_forgotten equations_set equations_kept "
+        "equations_rank equations_of differences_of"
+    ),
+    "looks": (
+        "sight_of end_sight is_look free_look look_holds look_within look_joined look_met look_widened look_rank exchanged"
+    ),
+    "effects": "form_of worth_of faults_in effect_of effect_of_give first_look look_behind",
+    "tables": (
+        "empty_table coming looked_at looked number_of open_place is_closed analysed changes_of narrowed lies_in"
+    ),
     "errors": (
         "LookError InvalidText InvalidProgram InvalidIndex InvalidPlace InvalidNumber InvalidState InvalidStretch "
         "InvalidRest InvalidWidth InvalidGuard InvalidSize InvalidSlot InvalidDifferences InvalidEquations "
@@ -63,7 +88,12 @@ def nodes(name, *kinds):
 def imported(name):
     """The files of the package from which a file imports, each with the names."""
     return [(node.module.split(".")[1], [alias.name for alias in node.names])
-            for node in nodes(name, ast.ImportFrom)]
+            for node in nodes(name, ast.ImportFrom) if node.module != "math"]
+
+
+def from_library(name):
+    """The names that a file imports from Python's own library."""
+    return [alias.name for node in nodes(name, ast.ImportFrom) if node.module == "math" for alias in node.names]
 
 
 class Form(unittest.TestCase):
@@ -143,7 +173,7 @@ class Form(unittest.TestCase):
 
     def test_no_names_of_imports_or_classes_are_given_again(self):
         for name in files():
-            taken = [alias for _, names in imported(name) for alias in names]
+            taken = [alias for _, names in imported(name) for alias in names] + from_library(name)
             taken += [node.name for node in nodes(name, ast.ClassDef)]
             self.assertEqual(len(taken), len(set(taken)), name)
             for node in nodes(name, ast.arg):
@@ -157,7 +187,7 @@ class Form(unittest.TestCase):
             self.assertEqual(nodes(name, ast.Import), [], name)
             for node in nodes(name, ast.ImportFrom):
                 self.assertEqual(node.level, 0)
-                self.assertRegex(node.module, r"^soundlooks\.[a-z_]+$")
+                self.assertRegex(node.module, r"^(soundlooks\.[a-z_]+|math)$")
                 self.assertTrue(all(alias.asname is None for alias in node.names))
             for module, names in imported(name):
                 told = tree(module + ".py").body
@@ -165,6 +195,16 @@ class Form(unittest.TestCase):
                 defined += [node.targets[0].id for node in told if isinstance(node, ast.Assign)]
                 for alias in names:
                     self.assertIn(alias, defined, (name, module))
+
+    def test_the_library_is_called_by_bare_names(self):
+        for name in files():
+            taken = from_library(name)
+            self.assertTrue(set(taken) <= {"gcd", "lcm"}, name)
+            calls = [node for node in nodes(name, ast.Call) if isinstance(node.func, ast.Name) and node.func.id in taken]
+            self.assertTrue(all(node.keywords == [] for node in calls), name)
+            read = [node.id for node in nodes(name, ast.Name) if node.id in taken]
+            self.assertEqual(sorted(read), sorted(node.func.id for node in calls), name)
+            self.assertEqual(sorted(set(read)), sorted(taken), name)
 
     def test_all_imports_are_used(self):
         for name in files():
