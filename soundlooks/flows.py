@@ -39,7 +39,7 @@ class Flow:
             self.fed[fed_by].append((key, len(self.sources[key])))
         self.sources[key].append(source)
 
-    def sight(self, key):
+    def sight_of_place(self, key):
         """The sight at a place."""
         return sight_at(self.program, self.layouts[key[0]], key[0], key[1])
 
@@ -78,7 +78,7 @@ class Board:
 
     def coming(self, key):
         """What comes to a place."""
-        found = nought_view(self.flow.sight(key)) if key == (0, 0) else None
+        found = nought_view(self.flow.sight_of_place(key)) if key == (0, 0) else None
         for index, source in enumerate(self.flow.sources[key]):
             if self.brought.get((key, index)) is None:
                 self.brought[key, index] = (self.bring(source),)
@@ -151,7 +151,7 @@ class Board:
 
     def number(self):
         """The sum of the ranks of all looks."""
-        return sum([view_rank(self.flow.marks, self.flow.sight(key), self.looks[key]) for key in self.flow.places])
+        return sum([view_rank(self.flow.marks, self.flow.sight_of_place(key), self.looks[key]) for key in self.flow.places])
 
 
 def empty_rows(flow):

@@ -189,10 +189,8 @@ def lines_rank(many, lines):
 
 
 def fraction(number, divisor):
-    """The pair of a fraction without a common divisor, the second number above 0."""
+    """The pair of a fraction by a number above 0, without a common divisor."""
     common = gcd(number, divisor)
-    if divisor < 0:
-        common = -common
     return number // common, divisor // common
 
 

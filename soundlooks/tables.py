@@ -121,7 +121,7 @@ def refuse_wrong_table(flow, table):
         if not isinstance(row, tuple) or len(row) != layout.end + 1:
             raise InvalidTable(None)
     for proc, place in flow.places:
-        if not is_view(flow.sight((proc, place)), table[proc][place]):
+        if not is_view(flow.sight_of_place((proc, place)), table[proc][place]):
             raise InvalidTable((proc, place))
 
 

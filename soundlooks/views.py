@@ -141,8 +141,11 @@ def view_rank(marks, sight, view):
 def exchange(view):
     """A look exchanged, in two rounds."""
     for _ in range(ROUNDS):
-        if view is not None:
-            view = exchanged_once(view)
+        before = view
+        view = None if before is None else exchanged_once(before)
+        # A round that changes nothing would change nothing again.
+        if view == before:
+            return view
     return view
 
 

@@ -242,7 +242,8 @@ class Refusals(unittest.TestCase):
     step = given_wrongs(
         InvalidStep, None, 0, (), ("set", "r", ONE), ("set", "n"), ("set", "q", ONE), ("put", "n", ONE, ONE), ("put", "r", ONE), ("ask", "n", 3, 2),
         ("ask", "n", True, 2), ("ask", "r", 0, 2), ("ask", "n", 10 ** 40, None), ("guard", ">", N, I), ("guard", "<", N), ("guard", "not", N, I), ("give", N),
-        ("call", None, "f", ()), ("guard", UNASKED, N, I), ("set", UNASKED, N), ("guard", "<", N, ("name", "given")), *ODD)
+        ("call", None, "f", ()), ("guard", UNASKED, N, I), ("set", UNASKED, N), ("put", "r", ("name", "q"), ONE),
+        ("put", "r", ONE, ("name", "q")), ("guard", "<", ("name", "r"), N), ("guard", "<", N, ("name", "r")), ("guard", "<", N, I, I), ("set", "n", N, N), ("guard", "<", N, ("name", "given")), *ODD)
     programs = [(((), None), InvalidProgram, {"place": (1,)})]
     index = given_wrongs(InvalidIndex, None, -1, 2, (), *ODD)
 

@@ -256,6 +256,7 @@ class Refusals(unittest.TestCase):
         one = self.right
         self.asked("is_equations", many=2, value=one)
         self.asked("equations_from", many=2, rows=((0, 0, 0), (2, 4, 6)))
+        self.assertEqual(e.equations_from(2, ((2, 4, 6),) * 60), one)
         self.asked("equations_hold", many=2, one=one, values=(1, 2))
         self.asked("equations_keep", many=2, one=one, row=(2, 4, 6))
         self.asked("form_value equations_guarded", many=2, one=one, form=(2, 4, 6))

@@ -110,6 +110,13 @@ class Sights(unittest.TestCase):
             for wrong in parts:
                 self.assertIs(looks.is_look(SIGHT, right[:at] + (wrong,) + right[at + 1:]), False, wrong)
 
+    def test_the_greatest_sight(self):
+        names = tuple(("a" + str(at), NUM) for at in range(20))
+        rows = tuple(("r" + str(at), ("row", 8)) for at in range(4))
+        free = looks.free_look((names, rows))
+        self.assertEqual([len(part) for part in free], [20, 20, 21, 0, 4])
+        self.assertEqual(looks.exchanged((names, rows), free), free)
+
     def test_names_are_counted_by_the_sight(self):
         self.assertFalse(looks.is_look(((("n", NUM),), ()), FREE))
         self.assertTrue(looks.is_look(((("given", NUM), ("n", NUM)), (("n2", ("row", 5)),)), FREE))
@@ -168,7 +175,8 @@ class Drawn(unittest.TestCase):
             self.assertTrue(looks.look_within(SIGHT, None, look))
         self.assertFalse(looks.look_within(SIGHT, one, None))
         self.assertEqual(looks.exchanged(SIGHT, None), None)
-        self.assertEqual(looks.look_rank(SIGHT, (1, 2), None), (2 + 1) * (2 * 2 + 15) + 2 * 3 * (2 + 2) + 2 + 3)
+        self.assertEqual(looks.look_rank(SIGHT, (1, 2, 7), None), (2 + 1) * (2 * 3 + 15) + 2 * 3 * (3 + 2) + 2 + 3)
+        self.assertEqual(looks.look_rank(((), ()), (1, 2, 7), None), 3)
         ring = one[:2] + (((0, -1, None), (0, 0, None), (None, None, 0)),) + one[3:]
         self.assertEqual(looks.look_joined(SIGHT, ring, ring), None)
         self.assertEqual(looks.look_joined(SIGHT, ring, one), one)

@@ -313,6 +313,8 @@ class Lying(unittest.TestCase):
         ):
             self.assertFalse(tables.lies_in(self.program, table, (frames, shared)))
         self.assertTrue(tables.lies_in(self.program, table, ((ahead, (1, 2, (4,))), right[1])))
+        for key in ((0, 0), (1, 0)):
+            self.assertFalse(tables.lies_in(self.program, with_look(table, key, None), right))
 
     def test_what_a_look_tells_of_the_callers_names_alone(self):
         # At the call x is g and up to 5 as its look tells; x alone is up to 5, whatever g has become.
