@@ -151,7 +151,8 @@ class Board:
 
     def number(self):
         """The sum of the ranks of all looks."""
-        return sum([view_rank(self.flow.marks, self.flow.sight_of_place(key), self.looks[key]) for key in self.flow.places])
+        flow = self.flow
+        return sum([view_rank(flow.marks, flow.sight_of_place(key), self.looks[key]) for key in flow.places])
 
 
 def empty_rows(flow):
