@@ -252,6 +252,29 @@ class Forms(unittest.TestCase):
                 self.assertIsNone(d.ring_of(20, one))
         self.assertEqual(seen, {True, False})
 
+    def test_all_functions_at_twenty_slots(self):
+        drawn = random.Random(10)
+        told = [drawn_differences(drawn, 20, (None,) * 40 + (0, 1, 3, 8, 8, 9)) for _ in range(6)]
+        for one, other in zip(told, told[1:]):
+            closed, beside = by_paths(20, one), by_paths(20, other)
+            joined, met = d.differences_joined(20, one, other), d.differences_met(20, one, other)
+            indexes = range(21)
+            self.assertEqual(joined, tuple(tuple(
+                None if None in (closed[i][j], beside[i][j]) else max(closed[i][j], beside[i][j]) for j in indexes) for i in indexes))
+            self.assertEqual(met, by_paths(20, tuple(tuple(min_of([one[i][j], other[i][j]]) for j in indexes) for i in indexes)))
+            i, j, k = drawn.sample(range(1, 21), 3)
+            less = by_paths(20, tuple(tuple(min_of([one[a][b], -2 if (a, b) == (i, j) else None]) for b in indexes) for a in indexes))
+            self.assertEqual(d.differences_guarded(20, one, i, j, -2), less)
+            made = d.differences_set(20, one, k, i, 4)
+            self.assertEqual(d.stretch_between(20, made, k, i), (4, 4))
+            self.assertEqual(d.differences_forgotten(20, made, k), d.differences_forgotten(20, one, k))
+            slots = tuple(drawn.sample(range(1, 21), 20))
+            kept = d.differences_kept(20, one, slots)
+            self.assertEqual([kept[a + 1][b + 1] for a in range(20) for b in range(20)], [closed[slots[a]][slots[b]] for a in range(20) for b in range(20)])
+            self.assertTrue(d.differences_within(20, one, joined) and d.differences_within(20, met, one))
+            values = d.values_apart(20, one, i, j, 0) or d.some_values(20, one)
+            self.assertTrue(d.differences_hold(20, one, values))
+
     def test_long_rings(self):
         for many in (1, 2, 7, 20):
             rows = [[0 if i == j else None for j in range(many + 1)] for i in range(many + 1)]

@@ -302,6 +302,7 @@ class Runs(unittest.TestCase):
         self.assertEqual(deepest[:4], ("goes", None, 300, 0))
         self.assertEqual(deepest[4], (((0, 0, ()),) * 301, ()))
         self.assertEqual(kind_of(again, deepest[4]), GOES)
+        self.assertEqual(moved(again, (deepest[4][0][1:], ()), None), deepest[4])
         further = moved(again, deepest[4], None)
         self.assertEqual(further, (((0, 0, ()),) * 302, ()))
         refused(self, InvalidState, {"given": further}, kind_of, again, further)

@@ -235,6 +235,30 @@ class Looking(unittest.TestCase):
                     # What comes there may hang on its own look: a loop that is entered by itself alone.
                     self.assertIsNotNone(found)
 
+    def test_one_look_made_lesser(self):
+        drawn = random.Random(12)
+        opened = 0
+        for program in PROGRAMS + drawn_programs(83, 12, tame=True, procs=2):
+            reference = Tables(program)
+            if len(reference.places) > 30:
+                continue
+            table = tables.analysed(program, ())
+            for key in drawn.sample(places_of(program), min(6, len(reference.places))):
+                look = table[key[0]][key[1]]
+                if look is None or look[0] == ():
+                    continue
+                at = drawn.randrange(len(look[0]))
+                low, high = look[0][at]
+                lesser = drawn.choice([(low, 4), (5 if high is None or high > 4 else low, high), (low, high)])
+                if lesser[0] is not None and lesser[1] is not None and lesser[0] > lesser[1]:
+                    continue
+                made = with_look(table, key, (look[0][:at] + (lesser,) + look[0][at + 1:],) + look[1:])
+                found = tables.open_place(program, made)
+                self.assertEqual(found, reference.open_place(made))
+                self.assertIs(tables.is_closed(program, made), found is None)
+                opened += found is not None
+        self.assertGreater(opened, 5)
+
     def test_closed_tables_with_more_in_them(self):
         for program in PROGRAMS:
             free = tuple(tuple(
