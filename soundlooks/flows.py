@@ -1,10 +1,11 @@
 """Tables of a program as they are looked at: what comes to each place, kept for as long as nothing changes it."""
 
+from soundlooks.basics import is_index
 from soundlooks.layout import layouts_of
 from soundlooks.sights import sight_at, sight_at_end, sight_in
 from soundlooks.steps import effect, effect_of_give_step, first_view, view_behind
 from soundlooks.trees import marks_of
-from soundlooks.views import exchange, nought_view, view_joined, view_rank, view_widened, view_within
+from soundlooks.views import exchange, is_view, nought_view, view_joined, view_rank, view_widened, view_within
 
 
 class Flow:
@@ -42,6 +43,29 @@ class Flow:
     def sight_of_place(self, key):
         """The sight at a place."""
         return sight_at(self.program, self.layouts[key[0]], key[0], key[1])
+
+    def is_place(self, value):
+        """Whether a value is a pair of a procedure and a place."""
+        if not isinstance(value, tuple) or len(value) != 2 or not is_index(value[0], len(self.layouts)):
+            return False
+        return is_index(value[1], self.layouts[value[0]].end + 1)
+
+    def has_form(self, value):
+        """Whether a value is as a table is, whatever its looks are."""
+        if not isinstance(value, tuple) or len(value) != len(self.layouts):
+            return False
+        return all([isinstance(row, tuple) and len(row) == layout.end + 1 for row, layout in zip(value, self.layouts)])
+
+    def wrong_look_in(self, table):
+        """The first place whose look in what has a table's form is none; None if there is none."""
+        for key in self.places:
+            if not is_view(self.sight_of_place(key), table[key[0]][key[1]]):
+                return key
+        return None
+
+    def is_table(self, value):
+        """Whether a value is a table."""
+        return self.has_form(value) and self.wrong_look_in(value) is None
 
 
 class Board:
@@ -149,6 +173,11 @@ class Board:
         if not all([self.holds_coming(target) for target in hanging]):
             self.put_look(key, before)
 
+    def narrow_everywhere(self):
+        """Narrows a closed table at all places, one behind the other."""
+        for key in self.flow.places:
+            self.narrow(key)
+
     def number(self):
         """The sum of the ranks of all looks."""
         flow = self.flow
@@ -158,3 +187,17 @@ class Board:
 def empty_rows(flow):
     """The table of None everywhere."""
     return tuple([(None,) * (layout.end + 1) for layout in flow.layouts])
+
+
+def analysed_by(flow, order):
+    """The board of a program analysed by an order; and how many looks changed something."""
+    board = Board(flow, empty_rows(flow))
+    changed = board.look_in_order(order)
+    return board, changed + board.look_until_calm()
+
+
+def best_rows(flow):
+    """The table of a program analysed by no order, narrowed at all places once."""
+    board, _ = analysed_by(flow, ())
+    board.narrow_everywhere()
+    return board.table()

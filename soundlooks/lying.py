@@ -7,13 +7,14 @@ from soundlooks.steps import kept_at, slots_from
 from soundlooks.views import view_holds, view_of
 
 
-def lies_in_table(program, table, state):
+def lies_in_table(machine, table, state):
     """Whether a state lies in a table."""
-    frames, shared = state
+    frames, _ = state
     for frame in frames[:-1]:
-        if not lies_ahead(program, table, frame):
+        if not lies_ahead(machine.program, table, frame):
             return False
-    return lies_last(program, table, frames[-1], shared)
+    proc, place, _ = frames[-1]
+    return lies_last(machine, table[proc][place], state)
 
 
 def numbers_and_rows(pairs, told):
@@ -22,15 +23,21 @@ def numbers_and_rows(pairs, told):
     return tuple(numbers), tuple([one for pair, one in zip(pairs, told) if is_row(pair)])
 
 
-def lies_last(program, table, frame, shared):
-    """Whether the last frame's values and the globals lie in the look of its place."""
-    proc, place, own = frame
-    numbers, cells = numbers_and_rows(program[0], shared)
-    if place + 1 == len(table[proc]):
-        own_numbers, own_cells = own, ()
-    else:
-        own_numbers, own_cells = numbers_and_rows(own_pairs(program, proc), own)
-    return view_holds(table[proc][place], numbers + own_numbers, cells + own_cells)
+def last_values(machine, state):
+    """The values for the sight of the last frame's place: its numbers, and its rows."""
+    frames, shared = state
+    proc, place, own = frames[-1]
+    numbers, cells = numbers_and_rows(machine.program[0], shared)
+    if place == machine.layouts[proc].end:
+        return numbers + own, cells
+    own_numbers, own_cells = numbers_and_rows(own_pairs(machine.program, proc), own)
+    return numbers + own_numbers, cells + own_cells
+
+
+def lies_last(machine, view, state):
+    """Whether the last frame's values and the globals lie in a look of its place."""
+    numbers, cells = last_values(machine, state)
+    return view_holds(view, numbers, cells)
 
 
 def lies_ahead(program, table, frame):

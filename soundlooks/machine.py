@@ -1,8 +1,8 @@
 """The machine: states, what they are, where they go, and runs."""
 
 from soundlooks.arguments import refuse_wrong_inputs, refuse_wrong_most, refuse_wrong_program
-from soundlooks.basics import is_whole
 from soundlooks.errors import InvalidNumber, InvalidState, NotGoing
+from soundlooks.running import is_within, led
 from soundlooks.states import Machine
 
 
@@ -57,28 +57,9 @@ def refuse_wrong_input(word, what, number):
         raise InvalidNumber(number)
 
 
-def is_within(bounds, number):
-    """Whether a value is a whole number within the bounds of an ask."""
-    low, high = bounds
-    if not is_whole(number) or (low is not None and number < low):
-        return False
-    return high is None or number <= high
-
-
 def run_of(program, inputs, most):
     """A triple: what the run comes to, (WORD, WHAT); the list of its states; how many inputs it took."""
     refuse_wrong_program(program)
     refuse_wrong_inputs(inputs)
     refuse_wrong_most(most)
-    machine = Machine(program)
-    states = [machine.first()]
-    used = 0
-    while True:
-        word, what = machine.kind(states[-1])
-        is_fed = word == "waits" and used < len(inputs) and is_within(what, inputs[used])
-        if word != "goes" and not is_fed:
-            return (word, what), states, used
-        if len(states) > most:
-            return ("goes", None), states, used
-        states.append(machine.next_state(states[-1], inputs[used] if is_fed else None))
-        used += 1 if is_fed else 0
+    return led(Machine(program), inputs, most)

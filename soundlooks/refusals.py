@@ -1,8 +1,11 @@
-"""Refuses arguments that are not as told: those that have to do with looks."""
+"""Refuses arguments that are not as told: those that have to do with looks, and with searches for runs."""
 
 from soundlooks.basics import COMPARISONS, first_word, is_high, is_kind, is_low, is_name, is_row, is_whole
-from soundlooks.errors import InvalidExpression, InvalidLook, InvalidSight, InvalidStep, InvalidValues
+from soundlooks.errors import InvalidExpression, InvalidFault, InvalidLook, InvalidNumber, InvalidSight, InvalidStep
+from soundlooks.errors import InvalidValues
+from soundlooks.searching import is_bound
 from soundlooks.states import are_numbers
+from soundlooks.telling import is_fault_word
 from soundlooks.views import is_view
 from soundlooks.wrongs import names_number, names_row, wrong_expression
 
@@ -113,3 +116,27 @@ def is_step(kinds, value):
     else:
         is_right = isinstance(value[1], str) and value[1] in COMPARISONS
     return is_right and all([is_expression(kinds, part) for part in value[2:]])
+
+
+def refuse_wrong_fault(fault):
+    """Raises InvalidFault for what is no fault."""
+    if not is_fault_word(fault):
+        raise InvalidFault(fault)
+
+
+def refuse_wrong_many_states(most):
+    """Raises InvalidNumber for what is no bound of a search."""
+    if not is_bound(most):
+        raise InvalidNumber(most)
+
+
+def refuse_wrong_low(low):
+    """Raises InvalidNumber for what is neither a whole number nor None."""
+    if low is not None and not is_whole(low):
+        raise InvalidNumber(low)
+
+
+def refuse_wrong_high(low, high):
+    """Raises InvalidNumber for what is neither a whole number, from a low one on, nor None."""
+    if high is not None and (not is_whole(high) or (low is not None and high < low)):
+        raise InvalidNumber(high)

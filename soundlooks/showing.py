@@ -74,11 +74,12 @@ def line_text(statement):
 
 
 class Page:
-    """The lines shown so far, and for each statement its path and the line on which it begins."""
+    """The lines shown so far; for each statement its path and the line on which it begins; where procedures end."""
 
     def __init__(self):
         self.lines = []
         self.begun = []
+        self.ended = []
 
     def add_line(self, depth, told):
         """Shows a line with so many blocks around it."""
@@ -100,6 +101,7 @@ class Page:
             self.add_line(1, f"{decl_text(pair)};")
         self.add_block(body, path + (3,), 1)
         self.add_line(0, "}")
+        self.ended.append(len(self.lines))
 
     def add_block(self, block, path, depth):
         """Shows the statements of a block."""

@@ -1,12 +1,10 @@
 """Tables: a look for each place of a program, what comes to places, and looking until nothing changes."""
 
 from soundlooks.arguments import refuse_wrong_place, refuse_wrong_proc, refuse_wrong_program
-from soundlooks.basics import is_index
 from soundlooks.errors import InvalidOrder, InvalidState, InvalidTable, NotClosed
-from soundlooks.flows import Board, Flow, empty_rows
+from soundlooks.flows import Board, Flow, analysed_by, empty_rows
 from soundlooks.lying import lies_in_table
 from soundlooks.states import Machine
-from soundlooks.views import is_view
 
 MOST_LOOKS = 300
 
@@ -80,13 +78,20 @@ def lies_in(program, table, state):
     machine = Machine(program)
     if not machine.is_state(state):
         raise InvalidState(state)
-    return lies_in_table(program, table, state)
+    return lies_in_table(machine, table, state)
 
 
 def flow_of(program):
     """The flow of a program, which is not taken for granted."""
     refuse_wrong_program(program)
     return Flow(program)
+
+
+def flow_at(program, proc, place):
+    """The flow of a program; neither this nor a place of it is taken for granted."""
+    flow = flow_of(program)
+    refuse_wrong_place_of(flow, proc, place)
+    return flow
 
 
 def board_of(program, table):
@@ -99,8 +104,7 @@ def board_of(program, table):
 def board_at(program, table, proc, place):
     """The board of a table; neither it nor the place is taken for granted."""
     board = board_of(program, table)
-    refuse_wrong_proc(program, proc)
-    refuse_wrong_place(board.flow.layouts[proc], place)
+    refuse_wrong_place_of(board.flow, proc, place)
     return board
 
 
@@ -108,21 +112,22 @@ def analysed_board(program, order):
     """The board of a program analysed by an order; and how many looks changed something."""
     flow = flow_of(program)
     refuse_wrong_order(flow, order)
-    board = Board(flow, empty_rows(flow))
-    changed = board.look_in_order(order)
-    return board, changed + board.look_until_calm()
+    return analysed_by(flow, order)
+
+
+def refuse_wrong_place_of(flow, proc, place):
+    """Raises an error for what is no index of a procedure, or no place of its graph."""
+    refuse_wrong_proc(flow.program, proc)
+    refuse_wrong_place(flow.layouts[proc], place)
 
 
 def refuse_wrong_table(flow, table):
     """Raises InvalidTable for what is no table of a program."""
-    if not isinstance(table, tuple) or len(table) != len(flow.layouts):
+    if not flow.has_form(table):
         raise InvalidTable(None)
-    for row, layout in zip(table, flow.layouts):
-        if not isinstance(row, tuple) or len(row) != layout.end + 1:
-            raise InvalidTable(None)
-    for proc, place in flow.places:
-        if not is_view(flow.sight_of_place((proc, place)), table[proc][place]):
-            raise InvalidTable((proc, place))
+    wrong = flow.wrong_look_in(table)
+    if wrong is not None:
+        raise InvalidTable(wrong)
 
 
 def refuse_wrong_order(flow, order):
@@ -130,12 +135,5 @@ def refuse_wrong_order(flow, order):
     if not isinstance(order, tuple) or len(order) > MOST_LOOKS:
         raise InvalidOrder(None)
     for index, key in enumerate(order):
-        if not is_key(flow, key):
+        if not flow.is_place(key):
             raise InvalidOrder(index)
-
-
-def is_key(flow, value):
-    """Whether a value is a pair of a procedure and a place."""
-    if not isinstance(value, tuple) or len(value) != 2 or not is_index(value[0], len(flow.layouts)):
-        return False
-    return is_index(value[1], flow.layouts[value[0]].end + 1)

@@ -40,6 +40,10 @@ INTERFACE = {
     "tables": (
         "empty_table coming looked_at looked number_of open_place is_closed analysed changes_of narrowed lies_in"
     ),
+    "alarms": "faults_at alarms tried_numbers found is_whole_search bearing_run leaving_run answers",
+    "checker": "accepts",
+    "certificates": "certify_table certify_look certify_place certify_program",
+    "console": "Console best_table shown_look",
     "errors": (
         "LookError InvalidText InvalidProgram InvalidIndex InvalidPlace InvalidNumber InvalidState InvalidStretch "
         "InvalidRest InvalidWidth InvalidGuard InvalidSize InvalidSlot InvalidDifferences InvalidEquations "
@@ -64,7 +68,7 @@ NAMES_NOT_USED = (
 ).split()
 NODES_NOT_USED = (
     ast.Global, ast.AsyncFunctionDef, ast.Await, ast.Yield, ast.YieldFrom, ast.Lambda, ast.Div, ast.MatMult,
-    ast.Set, ast.Try, ast.With, ast.AnnAssign, ast.NamedExpr, ast.Starred, ast.GeneratorExp, ast.Nonlocal,
+    ast.Set, ast.With, ast.AnnAssign, ast.NamedExpr, ast.Starred, ast.GeneratorExp, ast.Nonlocal,
 )
 
 
@@ -138,6 +142,33 @@ class Form(unittest.TestCase):
                 told = [getattr(node, word) for word in ("id", "arg", "name", "attr") if hasattr(node, word)]
                 self.assertNotIn(told[0], NAMES_NOT_USED, name)
                 self.assertFalse(told[0].startswith("__") and told[0] != "__init__", (name, told))
+
+    def test_only_own_errors_are_caught(self):
+        own = {node.name for node in nodes("errors.py", ast.ClassDef)}
+        for name in files():
+            for node in nodes(name, ast.Try):
+                self.assertEqual((node.orelse, node.finalbody), ([], []))
+                for handler in node.handlers:
+                    self.assertIn(handler.type.id, own)
+                    read = [one.attr for one in ast.walk(handler) if isinstance(one, ast.Attribute)
+                            and isinstance(one.value, ast.Name) and one.value.id == handler.name]
+                    told = [one for one in ast.walk(handler) if isinstance(one, ast.Name) and one.id == handler.name]
+                    self.assertEqual(len(read), len(told), name)
+                    self.assertTrue(set(read) <= {"line", "column", "place"}, name)
+
+    def test_methods_of_the_interface_stand_in_their_class(self):
+        classes = [node for node in tree("console.py").body if isinstance(node, ast.ClassDef) and node.name == "Console"]
+        own = [node.name for node in classes[0].body if isinstance(node, ast.FunctionDef)]
+        self.assertTrue({"say", "program"} <= set(own))
+
+    def test_no_name_is_a_method_and_an_attribute_of_one_class(self):
+        for name in files():
+            for node in nodes(name, ast.ClassDef):
+                methods = [one.name for one in node.body if isinstance(one, ast.FunctionDef)]
+                self.assertEqual(len(methods), len(set(methods)), name)
+                for one in ast.walk(node):
+                    if isinstance(one, ast.Attribute) and isinstance(one.ctx, ast.Store):
+                        self.assertNotIn(one.attr, methods, name)
 
     def test_powers(self):
         for name in files():

@@ -149,6 +149,49 @@ EFFECTS = r'''
 [(((0, 0), (3, 3)), ((0, 0), (3, 0)), ((0, 0, -3), (0, 0, -3), (3, 3, 0)), ((1, 0, 0), (0, 1, 3)), ()), (((0, 0), (6, 6)), ((0, 0), (6, 0)), ((0, 0, -6), (0, 0, -6), (6, 6, 0)), ((1, 0, 0), (0, 1, 6)), ()), (((6, 6),), ((6, 0),), ((0, -6), (6, 0)), ((1, 6),), ())]
 '''
 
+ALARMS = r'''
+>>> from soundlooks.alarms import alarms, answers, bearing_run, faults_at, found, is_whole_search, leaving_run, tried_numbers
+>>> from soundlooks.tables import analysed
+>>> num, x, y = ("num",), ("name", "x"), ("name", "y")
+>>> half = ((), (("main", (), (("x", num),), (("ask", "x", 0, 3), ("set", "x", ("div", ("number", 6), x)))),))
+>>> table = analysed(half, ())
+>>> [faults_at(half, 0, 1, table[0][1]), faults_at(half, 0, 1, None), alarms(half, table), answers(half, table, 100)]
+[('zero',), (), ((0, 1, 'zero'),), ((0, 1, 'zero', ('run', (0,), 1)),)]
+>>> [len(found(half, 100)), is_whole_search(half, 9), is_whole_search(half, 8), bearing_run(half, 0, 1, "zero", 1), leaving_run(half, 0, 2, None, 100)]
+[9, True, False, None, ((1,), 2)]
+>>> [found(half, 2), found(half, 100)[5][1:]]
+[(((((0, 0, (0,)),), ()), (), 0), ((((0, 1, (0,)),), ()), (0,), 1)), ((1,), 2)]
+>>> squares = ((), (("main", (), (("x", num), ("y", num)), (("ask", "x", 0, 3), ("set", "y", ("mod", ("*", x, x), ("number", 4))), ("set", "x", ("div", ("number", 6), ("-", y, ("number", 2)))))),))
+>>> [answers(squares, analysed(squares, ()), 12), answers(squares, analysed(squares, ()), 11), tried_numbers(squares, 0, 3), tried_numbers(squares, 5, None), tried_numbers(squares, 0, 20)]
+[((0, 2, 'zero', ('never',)),), ((0, 2, 'zero', ('open',)),), (0, 1, 2, 3), (5, 6, 7), (0, 1, 2, 3, 4, 5, 6, 7, 20)]
+'''
+
+CERTIFICATES = r'''
+>>> from soundlooks.certificates import certify_look, certify_place, certify_program, certify_table
+>>> from soundlooks.checker import accepts
+>>> [certify_program(half, 100) == (("wrong", half, 0, 1, "zero"), ((0,), 1)), certify_place(half, 0, 1, 1), certify_look(half, 0, 2, None, 100) == (("leaves", half, 0, 2, None), ((1,), 2)), certify_look(half, 0, 1, table[0][1], 1)[1][0]]
+[True, None, True, 'table']
+>>> [certify_program(squares, 100) == (("never wrong", squares), ("states", 100)), certify_program(squares, 11), certify_place(squares, 0, 1, 1)[0][0], certify_table(half, ((None, None, None, None),))[1]]
+[True, None, 'safe', (0, 0)]
+>>> [accepts(("wrong", half, 0, 1, "zero"), ((0,), 1)), accepts(("wrong", half, 0, 1, "zero"), ((1,), 1)), accepts(("leaves", half, 0, 2, None), ((1, 1), 2)), accepts(("safe", squares, 0, 2), ("states", 12)), accepts(("safe", squares, 0, 2), ("table", analysed(squares, ()))), accepts(("closed", half, table), ()), accepts(("closed", half, table), None)]
+[True, False, False, True, False, True, False]
+>>> nought = (((0, 0),), ((0, 0),), ((0, 0), (0, 0)), ((1, 0),), ())
+>>> some = (((None, None),), ((0, 1),), ((0, None), (None, 0)), (), ())
+>>> told = lambda low, high: ((nought, (((low, high),), ((0, 1),), ((0, -low), (high, 0)), (), ()), some, nought),)
+>>> dozen = ((), (("main", (), (("x", num),), (("ask", "x", 1, 6), ("set", "x", ("div", ("number", 12), x)))),))
+>>> [accepts(("never wrong", dozen), ("table", told(1, 6))), accepts(("never wrong", dozen), ("table", told(0, 6))), accepts(("closed", dozen, told(0, 6)), ()), accepts(("not closed", dozen, told(2, 6)), (0, 1)), accepts(("closed", half, told(0, 3)), ()), accepts(("closed", half, told(1, 3)), ())]
+[True, False, True, True, True, False]
+'''
+
+CONSOLE = r'''
+>>> from soundlooks.console import Console
+>>> desk = Console()
+>>> [desk.say("show"), desk.say("put num best; proc main() { num i; while (i < 3) { i = i + 1; } }"), desk.say("run 100"), desk.say("drop other"), desk.say("add proc main() { }"), desk.say("undo"), desk.say("undo")]
+[('no program',), ('2 statements',), ('done 0', 'best = 0'), ('no such line',), ('wrong at 1 1 0',), ('undone',), ('nothing to undo',)]
+>>> [desk.say("put proc p( {"), desk.say("put proc p() { num x; ask x from 1 to 3; }"), desk.say("places p"), desk.say("run 9 4"), desk.say("run 1 2")]
+[('bad text at 1 9',), ('1 statements',), ('0 at 3', '1 at 4', '2 at 4'), ('waits at 3', 'x = 0'), ('goes at 4', 'x = 2')]
+'''
+
 
 def steps_of(session):
     """The pairs of a line that is typed and what is shown for it, None for nothing."""
@@ -164,7 +207,8 @@ def steps_of(session):
 class Sessions(unittest.TestCase):
     def test_sessions(self):
         names = {}
-        for session in (TEXT, TREES, MACHINE, STRETCHES, RESTS, DIFFERENCES, EQUATIONS, LOOKS, EFFECTS):
+        for session in (TEXT, TREES, MACHINE, STRETCHES, RESTS, DIFFERENCES, EQUATIONS, LOOKS, EFFECTS,
+                        ALARMS, CERTIFICATES, CONSOLE):
             for typed, shown in steps_of(session):
                 self.step(names, typed, shown)
 
