@@ -252,6 +252,7 @@ class Accepting(unittest.TestCase):
         self.assertIs(accepts(("leaves", always, 0, 0, None), ((10 ** 300,) * 150, 300)), True)
         self.assertIs(accepts(("leaves", always, 0, 1, None), ((-1,) * 150, 299)), True)
         self.assertIs(accepts(("leaves", always, 0, 1, None), ((-1,) * 150, 300)), False)
+        self.assertIs(accepts(("leaves", always, 0, 1, None), ((-1,) * 151, 301)), False)
         again = tables.analysed(always, ())[0][1]
         self.assertIs(accepts(("leaves", always, 0, 1, again), ((-1,) * 150, 299)), False)
 

@@ -242,6 +242,26 @@ class ByHand(unittest.TestCase):
         self.assertIsNone(effects.effect_of(SIGHT, nine, ("guard", "==", X, ("+", X, ONE))))
         self.assertEqual(effects.effect_of(SIGHT, nine, ("guard", "<", X, ("+", X, ONE))), nine)
 
+    def test_great_names(self):
+        # In a worth a great end is none; the name's own stretch stays, and is met.
+        great = 2 ** 1300
+        look = (((great, great + 5), (0, 3)),) + self.free[1:]
+        self.assertEqual(effects.worth_of(SIGHT, look, X), ((None, None), (0, 1)))
+        for guard in (("guard", "<", X, W), ("guard", "<=", X, ZERO), ("guard", "==", W, X), ("guard", "==", X, W)):
+            self.assertIsNone(effects.effect_of(SIGHT, look, guard))
+        found = effects.effect_of(SIGHT, look, ("guard", "<", W, X))
+        self.assertEqual((found[0], found[2][2][1]), (((great, great + 5), (0, 3)), 3 - great))
+        found = effects.effect_of(SIGHT, look, ("set", "x", ("+", X, ONE)))
+        self.assertEqual((found[0][0], found[2][1][0]), ((great + 1, great + 6), great + 6))
+        just = (((great, great), (0, 3)), ((great, 0), (0, 1))) + self.free[2:]
+        found = effects.effect_of(SIGHT, just, ("set", "w", X))
+        self.assertEqual((found[0][1], found[1][1]), ((0, 0), (0, 0)))
+        found = effects.effect_of(SIGHT, just, ("set", "x", ("minus", X)))
+        self.assertEqual((found[0][0], found[1][0]), ((None, None), (-great % 20160, 20160)))
+        # Where a row of the equations tells it, exchange brings it back.
+        found = effects.effect_of(SIGHT, just[:3] + (((1, 0, great),),) + just[4:], ("set", "x", ("minus", X)))
+        self.assertEqual((found[0][0], found[1][0]), ((-great, -great), (-great, 0)))
+
     def test_rows_of_one_cell_are_replaced(self):
         cells = ((0, 0), (0, 0))
         for sight, expected in ((SIGHT, ((0, 8), (0, 8))), (SINGLE, ((8, 8), (8, 0)))):

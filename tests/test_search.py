@@ -34,6 +34,8 @@ OPEN = [read(text) for text in (
     "proc main() { num x; ask x from any to 3; x = 1 div x; }",
     "proc main() { num x; ask x from 1 to any; x = 1 div x; }",
     "proc main() { num x; ask x from any to any; check (x != 77); }",
+    # 6 alone is neither a mark nor a bound.
+    "row 6 r; proc main() { num x; ask x from 0 to 8; x = 3; }",
     "proc main() { num x; while (0 < 1) { x = x + 1; } }",
     "num g; proc main() { g = g + 1; call main(); }",
 )]
@@ -190,9 +192,9 @@ class Searches(unittest.TestCase):
         self.assertEqual(told, [(0,), (1,)])
 
     def test_many_frames(self):
-        triples = alarms.found(OPEN[5], 300)
+        triples = alarms.found(OPEN[6], 300)
         self.assertEqual([len(triples), len(triples[-1][0][0]), triples[-1][1:]], [300, 150, ((), 299)])
-        self.assertIs(alarms.is_whole_search(OPEN[5], 300), False)
+        self.assertIs(alarms.is_whole_search(OPEN[6], 300), False)
         # What is great ends the run.
         self.assertEqual(kind_of(FINITE[-1], alarms.found(FINITE[-1], 300)[-1][0]), ("great", None))
 

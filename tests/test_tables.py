@@ -304,6 +304,29 @@ class Narrowing(unittest.TestCase):
         # Narrowed at the first one first, the second one is told more of.
         self.assertEqual(tables.narrowed(HALF, wide, ((0, 1), (0, 2)))[0][2], (((2, 6),), ((0, 1),), ((0, -2), (6, 0)), (), ()))
 
+    def test_what_would_not_be_closed_stays(self):
+        program = read("proc main() { num x; num y; num u; num v; ask u from any to any; ask v from any to any; x = u + v; y = 10 - x;"
+                       " if (0 <= y and y <= 3) { x = x + 0; give x; } }")
+        table = tables.analysed(program, ())
+        came = table[0][6]
+        # x and y by u and v: that y is from 0 to 3 tells nothing of x, as neither u nor v is told.
+        self.assertEqual((came[0][:2], came[3]), (((None, None), (0, 3)), ((1, 0, -1, -1, 0), (0, 1, 1, 1, 10))))
+        # What is wider by its parts, x + y is 10 and no more, tells more of x, once it is exchanged.
+        wide = came[:3] + (((1, 1, 0, 0, 10),), ())
+        made = (table[0][:6] + (wide,) + (None,) * (len(table[0]) - 7),)
+        while not tables.is_closed(program, made):
+            made = tables.looked(program, made, places_of(program))
+        self.assertEqual((made[0][6], made[0][7][0][0]), (wide, (7, 10)))
+        self.assertEqual(tables.coming(program, made, 0, 6), came)
+        self.assertFalse(tables.is_closed(program, with_look(made, (0, 6), came)))
+        for order in (((0, 6),), ((0, 6), (0, 6), (0, 3)), places_of(program)[:7]):
+            self.assertEqual(tables.narrowed(program, made, order), made)
+        # With the place behind it free there is nothing that would not be closed.
+        free = (((None, None),) * 4, ((0, 1),) * 4, came[2][:0] + tuple(tuple(0 if i == j else None for j in range(5)) for i in range(5)), (), ())
+        looser = with_look(with_look(made, (0, 7), free), (0, 9), (((None, None),), ((0, 1),), ((0, None), (None, 0)), (), ()))
+        self.assertTrue(tables.is_closed(program, looser))
+        self.assertEqual(tables.narrowed(program, looser, ((0, 6),)), with_look(looser, (0, 6), came))
+
     def test_not_closed(self):
         for order in ((), ((0, 0),)):
             refused(self, NotClosed, {}, tables.narrowed, HALF, told(1, 3), order)
