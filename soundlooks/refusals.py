@@ -1,5 +1,6 @@
 """Refuses arguments that are not as told: those that have to do with looks, and with searches for runs."""
 
+from soundlooks.arguments import refuse_wrong_values
 from soundlooks.basics import COMPARISONS, first_word, is_high, is_kind, is_low, is_name, is_row, is_whole
 from soundlooks.errors import InvalidExpression, InvalidFault, InvalidLook, InvalidNumber, InvalidSight, InvalidStep
 from soundlooks.errors import InvalidValues
@@ -49,11 +50,7 @@ def refuse_wrong_look(sight, look):
 
 def refuse_wrong_numbers(sight, numbers):
     """Raises InvalidValues for what is no tuple of the numbers of a sight."""
-    if not isinstance(numbers, tuple) or len(numbers) != len(sight[0]):
-        raise InvalidValues(None)
-    for index, number in enumerate(numbers):
-        if not is_whole(number):
-            raise InvalidValues(index)
+    refuse_wrong_values(len(sight[0]), numbers)
 
 
 def refuse_wrong_cells(sight, cells):

@@ -36,6 +36,33 @@ def reckoned(expression, told):
     return left + right if word == "+" else left - right if word == "-" else left * right
 
 
+def told_values(sight, numbers, cells):
+    return {**dict(zip([name for name, _ in sight[0]], numbers)), **dict(zip([name for name, _ in sight[1]], cells))}
+
+
+def brought(sight, numbers, cells, step, given=None):
+    """What a step brings forth from values: (numbers, cells); None for a fault or a guard that lets nothing by."""
+    told = told_values(sight, numbers, cells)
+    if step[0] == "guard":
+        left, right = reckoned(step[2], told), reckoned(step[3], told)
+        if left is None or right is None:
+            return None
+        so = {"<": left < right, "<=": left <= right, "==": left == right, "!=": left != right}[step[1]]
+        return (numbers, cells) if so else None
+    if step[0] == "put":
+        index, number = reckoned(step[2], told), reckoned(step[3], told)
+        if index is None or number is None or not 0 <= index < len(told[step[1]]):
+            return None
+        told[step[1]] = told[step[1]][:index] + (number,) + told[step[1]][index + 1:]
+    else:
+        number = reckoned(step[2], told) if step[0] == "set" else given
+        if number is None:
+            return None
+        kind = dict(sight[0])[step[1]]
+        told[step[1]] = number % 2 ** kind[1] if kind[0] == "word" else number
+    return tuple(told[name] for name, _ in sight[0]), tuple(told[name] for name, _ in sight[1])
+
+
 class StepDrawer(LookDrawer):
     """Draws expressions and steps over sights, too."""
 
@@ -103,35 +130,17 @@ class Drawn(unittest.TestCase):
             self.assertEqual(found, reference.effect(sight, look, step), (sight, look, step))
             numbers, cells = self.drawer.values(sight, look)
             if is_held(look, numbers, cells):
-                after = self.brought(sight, numbers, cells, step)
+                after = brought(sight, numbers, cells, step, self.given(step))
                 if after is not None:
                     held += 1
                     self.assertTrue(is_held(found, *after), (sight, look, step, numbers, cells))
         self.assertGreater(held, 300)
 
-    def brought(self, sight, numbers, cells, step):
-        """What a step brings forth from values; None for a fault or a guard that does not let them by."""
-        names, rows = [name for name, _ in sight[0]], [name for name, _ in sight[1]]
-        told = {**dict(zip(names, numbers)), **dict(zip(rows, cells))}
-        if step[0] == "guard":
-            left, right = reckoned(step[2], told), reckoned(step[3], told)
-            if left is None or right is None:
-                return None
-            so = {"<": left < right, "<=": left <= right, "==": left == right, "!=": left != right}[step[1]]
-            return (numbers, cells) if so else None
-        if step[0] == "put":
-            index, number = reckoned(step[2], told), reckoned(step[3], told)
-            if index is None or number is None or not 0 <= index < len(told[step[1]]):
-                return None
-            told[step[1]] = told[step[1]][:index] + (number,) + told[step[1]][index + 1:]
-        else:
-            low, high = (-9 if step[2] is None else step[2], 30 if step[3] is None else step[3]) if step[0] == "ask" else (0, 0)
-            number = self.drawer.random.randint(low, high) if step[0] == "ask" else reckoned(step[2], told)
-            if number is None:
-                return None
-            kind = dict(sight[0])[step[1]]
-            told[step[1]] = number % 2 ** kind[1] if kind[0] == "word" else number
-        return tuple(told[name] for name in names), tuple(told[name] for name in rows)
+    def given(self, step):
+        """A number that an ask lets in; None for other steps."""
+        if step[0] != "ask":
+            return None
+        return self.drawer.random.randint(-9 if step[2] is None else step[2], 30 if step[3] is None else step[3])
 
     def test_gives_and_calls(self):
         programs = Drawer(77, tame=True, procs=3)

@@ -6,7 +6,7 @@ import unittest
 from soundlooks import effects, looks
 from soundlooks.text import read
 from tests.helper import NUM, ONE
-from tests.test_effects import StepDrawer, reckoned
+from tests.test_effects import StepDrawer, brought, reckoned, told_values
 from tests.test_looks import is_held
 
 X, W, Y = ("name", "x"), ("name", "w"), ("name", "y")
@@ -35,33 +35,6 @@ def point(sight, numbers, cells):
         pairs.append(((low, high), (low, 0) if low == high else (0, 1)))
     return (tuple((number, number) for number in numbers), tuple((number, 0) for number in numbers),
             tuple(tuple(a - b for b in told) for a in told), rows, tuple(pairs))
-
-
-def told_values(sight, numbers, cells):
-    return {**dict(zip([name for name, _ in sight[0]], numbers)), **dict(zip([name for name, _ in sight[1]], cells))}
-
-
-def brought(sight, numbers, cells, step, given=None):
-    """What a step brings forth from values: (numbers, cells); None for a fault or a guard that lets nothing by."""
-    told = told_values(sight, numbers, cells)
-    if step[0] == "guard":
-        left, right = reckoned(step[2], told), reckoned(step[3], told)
-        if left is None or right is None:
-            return None
-        so = {"<": left < right, "<=": left <= right, "==": left == right, "!=": left != right}[step[1]]
-        return (numbers, cells) if so else None
-    if step[0] == "put":
-        index, number = reckoned(step[2], told), reckoned(step[3], told)
-        if index is None or number is None or not 0 <= index < len(told[step[1]]):
-            return None
-        told[step[1]] = told[step[1]][:index] + (number,) + told[step[1]][index + 1:]
-    else:
-        number = reckoned(step[2], told) if step[0] == "set" else given
-        if number is None:
-            return None
-        kind = dict(sight[0])[step[1]]
-        told[step[1]] = number % 2 ** kind[1] if kind[0] == "word" else number
-    return tuple(told[name] for name, _ in sight[0]), tuple(told[name] for name, _ in sight[1])
 
 
 def wide_looks(sight, seed, many):
